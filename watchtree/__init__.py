@@ -1,0 +1,1 @@
+"""watchtree: supervision trees, step by step at the ticks of a clock."""
