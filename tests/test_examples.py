@@ -22,6 +22,34 @@ SCRIPTS = """
 (1, ('q',), True, False)
 """
 
+TEXTS = """
+>>> from watchtree.plans import SupervisorPlan, WorkerPlan
+>>> from watchtree.texts import plan_text, read_plan
+>>> plan = SupervisorPlan("root", WorkerPlan("left", closing=4, deadline=2), strategy="all")
+>>> (plan_text(plan), read_plan(plan_text(plan)) == plan)
+('supervisor root permanent all 1 10 -\\n  worker left permanent 0 4 2 0', True)
+"""
+
+TREES = """
+>>> from watchtree.plans import SupervisorPlan, WorkerPlan
+>>> from watchtree.trees import Tree
+>>> tree = Tree(SupervisorPlan("root", WorkerPlan("a"), WorkerPlan("b", opening=2)))
+>>> made = [tree.run(2), tree.fail("a"), tree.run(5), tree.budget("root"), tree.running, tree.fail("a"), tree.run(5)]
+>>> (made, tree.is_over, tree.reason_of("root"), tree.entries_count)
+([5, None, 3, 0, ('root', 'a', 'b'), None, 5], True, 'gave_up', 19)
+"""
+
+TIMES = """
+>>> from watchtree.plans import SupervisorPlan, WorkerPlan
+>>> from watchtree.times import opening_time, shutdown_told, stopping_time
+>>> from watchtree.trees import Tree
+>>> inner = SupervisorPlan("inner", WorkerPlan("w", opening=1, closing=2), most=0, span=1, deadline=3)
+>>> plan = SupervisorPlan("root", inner, WorkerPlan("v", closing=5, deadline=2), strategy="all", span=5)
+>>> tree = Tree(plan)
+>>> (tree.run_until_quiet(100), tree.tick, opening_time(plan), stopping_time(plan), shutdown_told(tree))
+(True, 1, 1, 4, (('v', 3, 'killed'), ('w', 5, 'shutdown'), ('inner', 5, 'shutdown'), ('root', 5, 'shutdown')))
+"""
+
 
 def answer_of(code):
     """What the last line of some code answers or raises, as an example writes it."""
@@ -48,6 +76,15 @@ class Examples(unittest.TestCase):
 
     def test_scripts(self):
         self.check(SCRIPTS)
+
+    def test_texts(self):
+        self.check(TEXTS)
+
+    def test_trees(self):
+        self.check(TREES)
+
+    def test_times(self):
+        self.check(TIMES)
 
 
 if __name__ == "__main__":

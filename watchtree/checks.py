@@ -1,6 +1,7 @@
 """Tells integers, words and the like from all other values, of whatever kind they are."""
 
 LARGEST_VALUE = 10 ** 12
+LARGEST_TICK = 10 ** 12
 MOST_SIGNS = 20
 LETTERS = "abcdefghijklmnopqrstuvwxyz"
 SIGNS = "abcdefghijklmnopqrstuvwxyz0123456789_"

@@ -108,7 +108,7 @@ def _check_children(children):
         if index == MOST_CHILDREN or not is_plan(child):
             raise BadChild(index)
         many += len(child)
-        if many > MOST_PLANS or _levels(child) + 1 > MOST_LEVELS:
+        if many > MOST_PLANS or levels_of(child) + 1 > MOST_LEVELS:
             raise BadChild(index)
 
 
@@ -155,17 +155,18 @@ def _turn_to(children, place):
     return turn
 
 
-def _levels(plan):
+def levels_of(plan):
+    """How many levels a plan has, itself being the first one."""
     if isinstance(plan, WorkerPlan):
         return 1
-    return 1 + max([_levels(child) for child in plan.children], default=0)
+    return 1 + max([levels_of(child) for child in plan.children], default=0)
 
 
-def _greatest_product(plan):
+def greatest_product(plan):
     """The greatest product of most + 1 over the supervisors of a path that begins with the plan."""
     if isinstance(plan, WorkerPlan):
         return 1
-    return (plan.most + 1) * max([_greatest_product(child) for child in plan.children], default=1)
+    return (plan.most + 1) * max([greatest_product(child) for child in plan.children], default=1)
 
 
 def _broken_rule(value):
@@ -177,9 +178,9 @@ def _broken_rule(value):
         return "names"
     if len(told) > MOST_ROOT_PLANS:
         return "size"
-    if _levels(value) > MOST_ROOT_LEVELS:
+    if levels_of(value) > MOST_ROOT_LEVELS:
         return "levels"
-    if _greatest_product(value) > MOST_ROOT_PRODUCT:
+    if greatest_product(value) > MOST_ROOT_PRODUCT:
         return "product"
     return None
 
@@ -209,6 +210,11 @@ def _changed_below(plan, place, settings):
     children = list(plan.children)
     turn = _turn_to(children, place)
     children[turn] = _changed_below(children[turn], place, settings)
+    return with_children(plan, children)
+
+
+def with_children(plan, children):
+    """A supervisor plan with the settings of this one, and with these children."""
     wanted = _settings_of(plan)
     wanted["children"] = children
     return _supervisor(**wanted)

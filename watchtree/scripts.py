@@ -116,6 +116,11 @@ def row_for(script, mode, word):
     _check_script(script)
     if not is_word(mode) or not is_word(word):
         return None
+    return found_row(script, mode, word)
+
+
+def found_row(script, mode, word):
+    """The row of a script for a mode and a word, or None, where all three are known to be right."""
     for row in script:
         if row[0] == mode and row[1] == word:
             return row
