@@ -17,6 +17,11 @@ def told(tree, since=0):
             for number, tick, _, word, data in log_of(tree) if number > since]
 
 
+def lines_with(tree, *words):
+    """The lines of the log with one of these words of entries."""
+    return [line for line in told(tree) if line.split()[1] in words]
+
+
 def told_with_causes(tree, since=0):
     """The entries behind one with this number, as lines: the number, the cause, the word and the data."""
     return [" ".join(str(item) for item in (number, cause, word) + data)

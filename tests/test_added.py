@@ -639,7 +639,7 @@ class AskedByDeeds(TreeCase):
             """, since)
 
     def test_a_place_that_has_left_the_list_by_the_time_is_removed_already(self):
-        tree, since = self.tree(("remove", "p"), ("remove", "p"))
+        tree, _ = self.tree(("remove", "p"), ("remove", "p"))
         tree.run(3)
         self.assertEqual(self.answers(tree), ["1", "1"])
         self.assertEqual([line for line in told(tree) if "removed" in line], ["3 removed 3 p"])

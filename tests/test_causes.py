@@ -93,9 +93,9 @@ class Causes(TreeCase):
         self.assertEqual(chain(tree, 16), (16, 15, 14, 11, 9, 4, 3, 1))
 
     def test_each_further_entry_of_a_step_is_caused_by_the_first_one(self):
-        inner = SupervisorPlan("s", worker("a", row("go", ("note", "x"), ("link", "b"), ("monitor", "b"), ("trap", True),
-                                                    ("mode", "m"), ("later", 5, "y", 0), ("cancel", "y"), ("note", "z"))),
-                               WorkerPlan("b", closing=9), deadline=1)
+        deeds = (("note", "x"), ("link", "b"), ("monitor", "b"), ("trap", True), ("mode", "m"), ("later", 5, "y", 0),
+                 ("cancel", "y"), ("note", "z"))
+        inner = SupervisorPlan("s", worker("a", row("go", *deeds)), WorkerPlan("b", closing=9), deadline=1)
         tree = ran(root(inner), 1)
         tree.send("a", "go")
         tree.run(3)
@@ -183,6 +183,52 @@ class Causes(TreeCase):
             {since + 12} {since + 5} arrived 2 2
             {since + 13} {since + 9} arrived 3 2
             """, since)
+
+    def test_an_order_that_is_not_the_first_one_any_more_when_it_begins(self):
+        # s is asked to stop between the notice of x, which puts the beginning of its mend, and this: y closes by the
+        # removal of s alone.
+        inner = SupervisorPlan("s", worker("x", row("go", ("end", "failed"))), WorkerPlan("y", closing=1))
+        tree = ran(root(inner, worker("e", row("go", ("remove", "s")))), 1)
+        tree.send("x", "go")
+        tree.send("e", "go")
+        tree.run(2)
+        self.check_causes(tree, """
+            12 0 input send ('x', 'go', 0)
+            13 12 sent 1 send None x go 0
+            14 0 input send ('e', 'go', 0)
+            15 14 sent 2 send None e go 0
+            16 12 arrived 1 3
+            17 14 arrived 2 5
+            18 16 taken 1 3
+            19 18 ended 3 failed
+            20 17 taken 2 5
+            21 20 closing 2
+            22 21 closing 4
+            """, 11)
+
+    def test_a_message_is_taken_by_what_makes_it_fit(self):
+        # The first message is waiting when the worker becomes idle, of the others the one that fits brings its taking.
+        tree = ran(root(worker("a", row("start", ("send", "own", "go", 0)), row("go"))), 5)
+        tree.send("a", "no")
+        tree.send("a", "go")
+        tree.run(9)
+        self.check_causes(tree, """
+            4 3 running 2
+            5 4 sent 1 send 2 a go 0
+            6 4 running 1
+            7 4 arrived 1 2
+            8 4 idle 2
+            9 8 taken 1 2
+            10 9 idle 2
+            11 0 input send ('a', 'no', 0)
+            12 11 sent 2 send None a no 0
+            13 0 input send ('a', 'go', 0)
+            14 13 sent 3 send None a go 0
+            15 11 arrived 2 2
+            16 13 arrived 3 2
+            17 16 taken 3 2
+            18 17 idle 2
+            """, 3)
 
     def test_refused_inputs_have_no_entry(self):
         tree = ran(root(WorkerPlan("a")), 1)

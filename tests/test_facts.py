@@ -113,8 +113,8 @@ class Falls(TreeCase):
                     if method not in ("send", "ask"):
                         do(other, method, arguments)
                 other.run(other.tick)
-                logs = [[entry for entry in log_of(one) if entry[3] in ("started", "running", "closing", "ended", "restart")]
-                        for one in (tree, other)]
+                words = ("started", "running", "closing", "ended", "restart")
+                logs = [[entry for entry in log_of(one) if entry[3] in words] for one in (tree, other)]
                 self.assertEqual([(tick * times, word, data) for _, tick, _, word, data in logs[0]],
                                  [(tick, word, data) for _, tick, _, word, data in logs[1]])
 

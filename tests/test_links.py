@@ -2,13 +2,8 @@
 
 import unittest
 
-from tests.telling import TreeCase, ran, root, row, told, worker
+from tests.telling import TreeCase, lines_with, ran, root, row, told, worker
 from watchtree.plans import SupervisorPlan, WorkerPlan
-
-
-def lines_with(tree, *words):
-    """The lines of the log with one of these words of entries."""
-    return [line for line in told(tree) if line.split()[1] in words]
 
 
 def doer(name, *deeds, **settings):
@@ -441,7 +436,7 @@ class Timers(TreeCase):
         self.assertEqual((tree.run(8), tree.is_quiet), (0, True))
 
     def test_a_message_that_was_sent_is_not_cancelled(self):
-        rows = (row("start", ("later", 1, "x", 1)), row("go", ("cancel", "x")))
+        rows = (row("start", ("later", 1, "x", 7)), row("go", ("cancel", "x")))
         tree = ran(root(worker("a", *rows)))
         tree.send("a", "go")
         tree.run(9)

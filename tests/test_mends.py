@@ -210,6 +210,59 @@ class SeveralMends(TreeCase):
             """, since)
         self.assertEqual((tree.noted("root"), tree.listed("root")), ((), ("b",)))
 
+    def test_the_notice_of_a_temporary_place_that_has_left_the_list(self):
+        # The order to remove t begins ahead of the notice that it has ended, as above; t is in the plan, or added.
+        for is_added in (False, True):
+            ends = worker("t", row("go", ("end", "failed")), restart="temporary")
+            tree = ran(root(worker("b", row("go", ("remove", "t"))), *(() if is_added else (ends,))))
+            if is_added:
+                tree.add("root", ends)
+            tree.send("b", "go")
+            tree.send("t", "go")
+            since = tree.entries_count
+            tree.run(1)
+            self.check_log(tree, """
+                1 arrived 1 2
+                1 arrived 2 3
+                1 taken 1 2
+                1 taken 2 3
+                1 ended 3 failed
+                1 removed 1 t
+                1 sent 3 told None 2 told 1
+                """, since)
+            self.assertEqual("t" in tree, not is_added)
+
+    def test_two_supervisors_mend_step_by_step_side_by_side(self):
+        # Each order takes the same steps for both, so their entries stand by turns.
+        one = SupervisorPlan("one", WorkerPlan("a"), WorkerPlan("b"), strategy="all")
+        two = SupervisorPlan("two", worker("c", row("go", ("link", "a"))), WorkerPlan("d"), strategy="rest")
+        tree = ran(root(one, two), 1)
+        tree.send("c", "go")
+        tree.run(3)
+        since = tree.entries_count
+        tree.fail("a")
+        tree.run(3)
+        self.check_log(tree, """
+            3 input fail ('a', 'failed')
+            3 ended 3 failed
+            3 signal 6 failed
+            3 ended 6 failed
+            3 restart 2 a
+            3 restart 5 c
+            3 closing 4
+            3 closing 7
+            3 ended 4 shutdown
+            3 ended 7 shutdown
+            3 started 8 a 2
+            3 started 9 c 5
+            3 running 8
+            3 running 9
+            3 started 10 b 2
+            3 started 11 d 5
+            3 running 10
+            3 running 11
+            """, since)
+
     def test_a_child_that_ends_while_a_mend_is_under_way_is_mended_behind_it(self):
         plan = root(WorkerPlan("a"), WorkerPlan("b"), WorkerPlan("c", closing=3), strategy="all", most=5)
         tree = ran(plan, 1)

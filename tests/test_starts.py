@@ -119,7 +119,7 @@ class Starts(TreeCase):
             """, since)
 
     def test_the_beginning_of_the_next_order_is_put_behind_the_report(self):
-        # The root hears that pair runs ahead of the mend of a, so its step that starts z is ahead of that which starts a.
+        # The root hears that pair runs ahead of the mend of a, so it starts z ahead of the start of a.
         pair = SupervisorPlan("pair", WorkerPlan("a"), WorkerPlan("b", opening=2))
         tree = ran(root(pair, WorkerPlan("z")), 1)
         tree.fail("a")

@@ -172,6 +172,34 @@ class Stops(TreeCase):
             4 arrived 5 2
             """, since)
 
+    def test_the_notice_of_a_process_that_was_awaited_by_a_dropped_order(self):
+        # s waits for the start of a when it is asked to stop; a ends by a signal of this very tick, and its notice
+        # comes ahead of the beginning of the order to stop b.
+        ends = worker("e", row("bind", ("link", "a")), row("go", ("end", "failed")))
+        removes = worker("f", row("go", ("remove", "s")))
+        inner = SupervisorPlan("s", WorkerPlan("a", opening=5), WorkerPlan("b", closing=2))
+        tree = ran(root(inner, ends, removes), 5)
+        tree.fail("a")
+        tree.send("e", "bind")
+        tree.run(8)
+        tree.send("e", "go")
+        tree.send("f", "go")
+        since = tree.entries_count
+        tree.run(9)
+        self.check_log(tree, """
+            9 arrived 2 5
+            9 arrived 3 6
+            9 taken 2 5
+            9 ended 5 failed
+            9 taken 3 6
+            9 signal 7 failed
+            9 ended 7 failed
+            9 closing 2
+            9 closing 4
+            """, since)
+        tree.run(11)
+        self.assertEqual([tree.reason_of(place) for place in ("a", "b", "s")], ["failed", "shutdown", "shutdown"])
+
     def test_a_second_stop_does_nothing_but_make_its_entry(self):
         tree, since = stopped(root(WorkerPlan("a", closing=3)))
         tree.run(5)
@@ -345,6 +373,18 @@ class Deadlines(TreeCase):
             self.assertEqual(told(tree, since)[0], "4 ended 7 killed")
             self.assertEqual([line for line in told(tree, since) if "killed" in line],
                              ["4 ended 7 killed", "4 ended 4 killed"])
+
+    def test_the_greatest_level_is_ahead_of_the_last_one_in_the_order_of_the_tree(self):
+        # The root stops z, and one stops b below it: z stands behind b in the order of the tree, on a smaller level.
+        one = SupervisorPlan("one", WorkerPlan("a"), WorkerPlan("b", closing=9, deadline=3), strategy="all")
+        plan = root(one, WorkerPlan("y"), WorkerPlan("z", closing=9, deadline=3), strategy="rest")
+        for places in (("a", "y"), ("y", "a")):
+            tree = ran(plan, 1)
+            for place in places:
+                tree.fail(place)
+            tree.run(4)
+            self.assertEqual([line for line in told(tree) if "killed" in line],
+                             ["4 ended 4 killed", "4 ended 6 killed"])
 
     def test_ordinary_steps_are_executed_between_two_deadlines(self):
         one = SupervisorPlan("one", WorkerPlan("a"), WorkerPlan("b", closing=9, deadline=3), strategy="all")

@@ -16,8 +16,8 @@ NAMES = (("a", "z9_", "b" * 20, "worker", "one"),
          ("", "A", "1a", "_a", "b" * 21, "own", "sender", "about", "a-b", "-", "a\t", "\u00e9", "a\r"))
 RESTARTS = (("permanent", "transient", "temporary"), ("", "Permanent", "permanen", "one", "0", "-", "never"))
 STRATEGIES = (("one", "rest", "all"), ("", "One", "none", "permanent", "1", "-"))
-NO_NUMBERS = ("", "00", "01", "+1", "-1", "--", "1_0", "1.0", "1e3", "a", "0x1", " 1", "1\t", "\u0661", "\uff11", "\u00b2",
-              "0000000001", "00000000000001", "1" * 11, "9" * 5000, "None", "1-", "10 000")
+NO_NUMBERS = ("", "00", "01", "+1", "-1", "--", "1_0", "1.0", "1e3", "a", "0x1", " 1", "1\t", "\u0661", "\uff11",
+              "\u00b2", "0000000001", "00000000000001", "1" * 11, "9" * 5000, "None", "1-", "10 000")
 TICKS = (("0", "1", "10", "999999999", "1000000000"), NO_NUMBERS + ("-", "1000000001", "9999999999"))
 DEADLINES = (("-",) + TICKS[0], NO_NUMBERS + ("1000000001", "none"))
 REFUSED = (("0", "1", "99", "100"), NO_NUMBERS + ("-", "101"))
@@ -29,10 +29,11 @@ SUPERVISOR_WORDS = (NAMES, RESTARTS, STRATEGIES, MOST, SPANS, DEADLINES)
 EXAMPLE = SupervisorPlan(
     "root", WorkerPlan("a", restart="transient", opening=1, closing=20, deadline=300, refused=4),
     SupervisorPlan("s", SupervisorPlan("t", WorkerPlan("b"), most=0, span=1), WorkerPlan("c"), restart="temporary",
-                   strategy="rest", most=20, span=10 ** 9, deadline=0), WorkerPlan("d", deadline=10 ** 9), strategy="all")
+                   strategy="rest", most=20, span=10 ** 9, deadline=0),
+    WorkerPlan("d", deadline=10 ** 9), strategy="all")
 EXAMPLE_LINES = (
-    "supervisor root permanent all 1 10 -", "  worker a transient 1 20 300 4", "  supervisor s temporary rest 20 1000000000 0",
-    "    supervisor t permanent one 0 1 -", "      worker b permanent 0 0 - 0", "    worker c permanent 0 0 - 0",
+    "supervisor root permanent all 1 10 -", "  worker a transient 1 20 300 4",
+    "  supervisor s temporary rest 20 1000000000 0", "    supervisor t permanent one 0 1 -", "      worker b permanent 0 0 - 0", "    worker c permanent 0 0 - 0",
     "  worker d permanent 0 0 1000000000 0")
 
 

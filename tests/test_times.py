@@ -55,7 +55,8 @@ class ShutdownsTold(TreeCase):
         over.run(0)
         self.assertTrue(over.is_over)
         waiting = ran(root(worker("a", row("start", ("later", 9, "x", 0), ("cancel", "x")))), 3)
-        for tree in (Tree(root()), Tree(root(WorkerPlan("a"))), ran(root(WorkerPlan("a", opening=3)), 2), over, waiting):
+        opening = ran(root(WorkerPlan("a", opening=3)), 2)
+        for tree in (Tree(root()), Tree(root(WorkerPlan("a"))), opening, over, waiting):
             count = tree.entries_count
             self.check_raises(NotQuiet(), shutdown_told, tree)
             self.assertEqual(tree.entries_count, count)
@@ -102,6 +103,16 @@ class ShutdownsTold(TreeCase):
             told_now = shutdown_told(ran(plan))
             self.assertEqual(told_now, (("b", 3, "shutdown"), ("a", deadline, reason), ("s", deadline, reason),
                                         ("root", deadline, "shutdown")))
+
+    def test_what_is_started_on_the_way(self):
+        # Beyond what is asked for: by its link, a is mended while z is waited for, and this process is stopped then.
+        links = worker("a", row("go", ("link", "z")), closing=1)
+        tree = ran(root(SupervisorPlan("s", links), WorkerPlan("y", closing=3), WorkerPlan("z", closing=9, deadline=2)))
+        tree.send("a", "go")
+        tree.run_until_quiet(50)
+        self.assertEqual((tree.tick, shutdown_told(tree)), (2, (
+            ("z", 4, "killed"), ("a", 4, "killed"), ("y", 7, "shutdown"), ("a", 8, "shutdown"), ("s", 8, "shutdown"),
+            ("root", 8, "shutdown"))))
 
     def test_workers_with_messages_that_wait(self):
         tree = ran(root(worker("a", row("start", ("send", "own", "go", 0)), closing=2)), 0)

@@ -2,7 +2,7 @@
 
 import unittest
 
-from tests.telling import TreeCase, ran, root, row, told, worker
+from tests.telling import TreeCase, lines_with, ran, root, row, told, worker
 from watchtree.plans import SupervisorPlan, WorkerPlan
 
 LARGEST = 10 ** 12
@@ -11,11 +11,6 @@ LARGEST = 10 ** 12
 def statuses(tree):
     """The status of each message, by its number."""
     return dict(tree.world.statuses)
-
-
-def lines_with(tree, *words):
-    """The lines of the log with one of these words of entries."""
-    return [line for line in told(tree) if line.split()[1] in words]
 
 
 class Work(TreeCase):
@@ -367,7 +362,8 @@ class Questions(TreeCase):
         tree.run(9)
         self.assertEqual(lines_with(tree, "taken", "answered"), [
             "2 taken 1 2", "3 taken 2 2", "4 taken 3 2", "4 answered 2", "5 taken 4 2"])
-        self.assertEqual((tree.world.questions, tree.world.answers), ({first: "open", second: "answered"}, {second: 31}))
+        self.assertEqual(tree.world.questions, {first: "open", second: "answered"})
+        self.assertEqual(tree.world.answers, {second: 31})
 
     def test_a_reply_without_a_question_does_nothing(self):
         tree = ran(root(worker("b", row("start", ("reply", 1)), row("go", ("reply", 2)))), 1)

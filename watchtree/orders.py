@@ -31,7 +31,6 @@ def take_away(world, supervisor):
 
 def replace_first(world, supervisor, orders):
     """The first order is taken away, and others are put in front of all that are left."""
-    supervisor.awaited = None
     supervisor.orders = orders + supervisor.orders[1:]
     put_beginning(world, supervisor)
 

@@ -17,7 +17,7 @@ def send_message(world, kind, sender, receiver, word, value, about=None):
     if sender is not None:
         source = sender.number
         home = sender.place
-    world.messages[number] = Message(number, kind, source, home, receiver, word, value, about)
+    world.messages[number] = Message(kind, source, home, receiver, word, value, about)
     world.statuses[number] = "sent"
     if kind == "ask":
         world.questions[number] = "open"

@@ -36,8 +36,10 @@ def shutdown_told(tree):
 
 
 def _ends_of(log, called):
-    """The list of (name, tick, reason) for the ends of a log; called has the names of the processes before it."""
-    called = dict(called)
+    """The list of (name, tick, reason) for the ends of a log.
+
+    called has the names of the processes before it, and gets those of the ones that are started in it.
+    """
     ends = []
     for entry in log:
         word, data = entry[3:]

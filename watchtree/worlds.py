@@ -138,8 +138,7 @@ class Message:
     for the kinds send and ask, otherwise of a process; about is the number of a place, or None.
     """
 
-    def __init__(self, number, kind, sender, home, receiver, word, value, about):
-        self.number = number
+    def __init__(self, kind, sender, home, receiver, word, value, about):
         self.kind = kind
         self.sender = sender
         self.home = home
