@@ -32,9 +32,14 @@ EXAMPLE = SupervisorPlan(
                    strategy="rest", most=20, span=10 ** 9, deadline=0),
     WorkerPlan("d", deadline=10 ** 9), strategy="all")
 EXAMPLE_LINES = (
-    "supervisor root permanent all 1 10 -", "  worker a transient 1 20 300 4",
-    "  supervisor s temporary rest 20 1000000000 0", "    supervisor t permanent one 0 1 -", "      worker b permanent 0 0 - 0", "    worker c permanent 0 0 - 0",
-    "  worker d permanent 0 0 1000000000 0")
+    "supervisor root permanent all 1 10 -",
+    "  worker a transient 1 20 300 4",
+    "  supervisor s temporary rest 20 1000000000 0",
+    "    supervisor t permanent one 0 1 -",
+    "      worker b permanent 0 0 - 0",
+    "    worker c permanent 0 0 - 0",
+    "  worker d permanent 0 0 1000000000 0",
+)
 
 
 def with_word(line, at, word):

@@ -118,6 +118,15 @@ class Records(unittest.TestCase):
                         self.assertEqual(world.places[one].above, process.place)
             self.assertEqual(len(found), len(world.live))
 
+    def test_an_order_to_mend_is_taken_away_for_those_in_front(self):
+        plan = root(WorkerPlan("a"), WorkerPlan("b", closing=3), WorkerPlan("c"), strategy="all", most=3)
+        tree = ran(plan)
+        tree.fail("c")
+        tree.run(0)
+        tree.add("root", WorkerPlan("x"))
+        self.assertEqual([(order.kind, order.name) for order in tree.world.live[1].orders], [
+            ("stop", "b"), ("stop", "a"), ("start", "a"), ("start", "b"), ("start", "c"), ("add", "x")])
+
     def test_timers_know_the_tick_of_their_arrival(self):
         rows = row("start", ("later", 5, "x", 1), ("later", 1, "y", 2), ("later", 3, "x", 3))
         tree = ran(root(WorkerPlan("b", opening=2), worker("a", rows)), 2)

@@ -118,16 +118,19 @@ def ask_to_add(world, place, plan, asker):
 def ask_to_remove(world, number, asker):
     """The supervisor of a place is asked to remove it; number is the place's or None, asker a process's or None."""
     place = world.places.get(number)
-    if place is None:
-        supervisor = None
-        name = None
-    else:
-        supervisor = supervisor_at(world, place.above)
-        name = place.plan.name
-    if supervisor is not None and number not in supervisor.places:
-        supervisor = None
+    name = None if place is None else place.plan.name
     order = Order(order_number(world), "remove", place=number, name=name, asker=asker, about=number)
-    _ask_for(world, supervisor, order)
+    _ask_for(world, _supervisor_over(world, place), order)
+
+
+def _supervisor_over(world, place):
+    """The process of a supervisor in whose list a place is, or None; also None without a place."""
+    if place is None:
+        return None
+    supervisor = supervisor_at(world, place.above)
+    if supervisor is None or place.number not in supervisor.places:
+        return None
+    return supervisor
 
 
 def _ask_for(world, supervisor, order):
