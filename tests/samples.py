@@ -66,3 +66,13 @@ def plan_of(many, name="root"):
         children.append(SupervisorPlan(here, *workers_of(here, min(left, 13) - 1), most=0))
         left -= min(left, 13)
     return SupervisorPlan(name, *children, most=0)
+
+
+def scaled(plan, times):
+    """A plan in which all ticks are so many times as large."""
+    deadline = None if plan.deadline is None else plan.deadline * times
+    if isinstance(plan, WorkerPlan):
+        return WorkerPlan(plan.name, restart=plan.restart, opening=plan.opening * times, closing=plan.closing * times,
+                          deadline=deadline, refused=plan.refused)
+    return SupervisorPlan(plan.name, *[scaled(child, times) for child in plan.children], restart=plan.restart,
+                          strategy=plan.strategy, most=plan.most, span=plan.span * times, deadline=deadline)

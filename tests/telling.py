@@ -2,13 +2,14 @@
 
 import unittest
 
+from watchtree.logs import entries
 from watchtree.plans import SupervisorPlan, WorkerPlan
 from watchtree.trees import Tree
 
 
 def log_of(tree):
     """The list of the entries of a tree."""
-    return list(tree.world.log)
+    return list(entries(tree))
 
 
 def told(tree, since=0):

@@ -50,6 +50,75 @@ TIMES = """
 (True, 1, 1, 4, (('v', 3, 'killed'), ('w', 5, 'shutdown'), ('inner', 5, 'shutdown'), ('root', 5, 'shutdown')))
 """
 
+FALLS = """
+>>> from watchtree.falls import attacks, fall, fewest, reach
+>>> from watchtree.plans import SupervisorPlan, WorkerPlan
+>>> from watchtree.trees import Tree
+>>> inner = SupervisorPlan("inner", WorkerPlan("w", opening=1, closing=2), most=0, span=1, deadline=3)
+>>> plan = SupervisorPlan("root", inner, WorkerPlan("v", closing=5, deadline=2), strategy="all", span=5)
+>>> tree = Tree(plan)
+>>> (tree.run_until_quiet(100), attacks(plan, "w"), fall(plan, "w"), fewest(plan), reach(tree, "w"))
+(True, (('inner', 1, 0), ('root', 3, 5)), (2, 6), 2, ('inner', 'v', 'w'))
+"""
+
+MESSAGES = """
+>>> from watchtree.messages import box, hangs_on, rings
+>>> from watchtree.plans import SupervisorPlan, WorkerPlan
+>>> from watchtree.trees import Tree
+>>> rows = (("stuck", "answer", 1, ()),)
+>>> one = WorkerPlan("a", script=(("first", "start", 1, (("ask", "b", "q", 0), ("mode", "stuck"))),) + rows)
+>>> two = WorkerPlan("b", script=(("first", "start", 1, (("ask", "a", "q", 0), ("mode", "stuck"))),) + rows)
+>>> tree = Tree(SupervisorPlan("root", one, two))
+>>> (tree.run_until_quiet(100), hangs_on(tree, "a"), rings(tree), box(tree, "a"))
+(True, 'b', (('a', 'b'),), (('q', 0),))
+"""
+
+LINKS = """
+>>> from watchtree.messages import links_of
+>>> from watchtree.plans import SupervisorPlan, WorkerPlan
+>>> from watchtree.trees import Tree
+>>> joined = WorkerPlan("b", script=(("first", "start", 1, (("link", "a"),)),))
+>>> tree = Tree(SupervisorPlan("root", WorkerPlan("a"), joined, most=2))
+>>> first = (tree.run_until_quiet(100), links_of(tree, "a"), tree.fail("a"))
+>>> (first, tree.run_until_quiet(100), links_of(tree, "a"), tree.noted("root"))
+((True, (3,), None), True, (5,), (1, 1))
+"""
+
+NO_MESSAGE = """
+>>> from watchtree.messages import status_of
+>>> from watchtree.plans import SupervisorPlan
+>>> from watchtree.trees import Tree
+>>> status_of(Tree(SupervisorPlan("root")), 1)
+raises NoMessage(1)
+"""
+
+LOGS = """
+>>> from watchtree.logs import chain, entries
+>>> from watchtree.messages import counts, question_of
+>>> from watchtree.plans import SupervisorPlan, WorkerPlan
+>>> from watchtree.trees import Tree
+>>> asks = (("first", "start", 1, (("ask", "b", "q", 5),)), ("first", "answer", 1, (("note", "done"),)))
+>>> replies = (("first", "q", 3, (("reply", ("plus", 1)),)),)
+>>> tree = Tree(SupervisorPlan("root", WorkerPlan("a", script=asks), WorkerPlan("b", script=replies)))
+>>> made = (tree.run_until_quiet(100), tree.tick, counts(tree), question_of(tree, 1), list(entries(tree))[12])
+>>> (made, chain(tree, 16))
+((True, 4, (0, 0, 2, 0), 'answered', (13, 1, 11, 'sent', (2, 'answer', 3, 2, 'answer', 6))), (16, 15, 14, 11, 9, 4, 3, 1))
+"""
+
+SNAPSHOTS = """
+>>> from watchtree.logs import entries, inputs, standing
+>>> from watchtree.messages import box
+>>> from watchtree.plans import SupervisorPlan, WorkerPlan
+>>> from watchtree.snapshots import restored, snapshot
+>>> from watchtree.trees import Tree
+>>> plan = SupervisorPlan("root", WorkerPlan("a"), most=3)
+>>> tree = Tree(plan)
+>>> made = (tree.run(3), tree.fail("a"), tree.send("a", "hello", 7))
+>>> other = restored(plan, snapshot(tree))
+>>> (made, tree.run(9), other.run(9), box(other, "a"), inputs(tree)[0], standing(plan, tuple(entries(tree))))
+((3, None, 1), 1, 1, (('hello', 7),), (3, 'fail', ('a', 'failed')), 13)
+"""
+
 
 def answer_of(code):
     """What the last line of some code answers or raises, as an example writes it."""
@@ -85,6 +154,24 @@ class Examples(unittest.TestCase):
 
     def test_times(self):
         self.check(TIMES)
+
+    def test_falls(self):
+        self.check(FALLS)
+
+    def test_messages(self):
+        self.check(MESSAGES)
+
+    def test_links(self):
+        self.check(LINKS)
+
+    def test_no_message(self):
+        self.check(NO_MESSAGE)
+
+    def test_logs(self):
+        self.check(LOGS)
+
+    def test_snapshots(self):
+        self.check(SNAPSHOTS)
 
 
 if __name__ == "__main__":

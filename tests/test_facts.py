@@ -1,100 +1,19 @@
 """watchtree.trees: facts of the document that rest on mends, messages, links and monitors, for trees by chance."""
 
 import unittest
-from math import prod
+from functools import cache
 
-from tests.histories import all_plans, do, history_by_chance, plain_root, root_by_chance, scripted_root, seeded
+from tests.histories import do, history_by_chance, plain_root, root_by_chance, scripted_root, seeded
+from tests.samples import scaled
 from tests.telling import TreeCase, log_of
-from watchtree.plans import SupervisorPlan, WorkerPlan, path_to, plan_at
-from watchtree.times import opening_time, stopping_time
+from watchtree.messages import counts, question_of, status_of
+from watchtree.plans import SupervisorPlan
 from watchtree.trees import Tree
 
-
-def attack_of(plan, place):
-    """The attack of the root by stubborn failures of a worker, or None if a supervisor does not give up (12.2)."""
-    way = [plan_at(plan, name) for name in path_to(plan, place)]
-    attack = 0
-    for above, child in reversed(list(zip(way, way[1:]))):
-        at = above.children.index(child)
-        opening = [opening_time(one) for one in above.children]
-        stopping = [stopping_time(one) for one in above.children]
-        stops = {"one": 0, "rest": sum(stopping[at + 1:]), "all": sum(stopping) - stopping[at]}[above.strategy]
-        starts = {"one": opening[at:at + 1], "rest": opening[at:], "all": opening}[above.strategy]
-        ahead = sum(opening[:at + 1]) if above.strategy == "all" else opening[at]
-        cycle = max(stops + sum(starts), stops + ahead + attack)
-        if above.most * cycle >= above.span:
-            return None
-        first = max(0, sum(opening[:at + 1]) + attack - sum(opening))
-        attack = first + above.most * cycle + sum(stopping) - stopping[at]
-    return attack
+STATUSES = ("sent", "waiting", "handled", "dropped")
 
 
-def stubborn_fall(plan, place, most):
-    """How many stubborn failures of a worker end the tree, and at which tick; None if more than so many do not."""
-    tree = Tree(plan)
-    many = 0
-    tree.run(0)
-    while not tree.is_over:
-        if tree.state_of(place) == "running":
-            if many == most:
-                return None
-            tree.fail(place)
-            many += 1
-            tree.run(tree.tick)
-        else:
-            tree.run(tree.next_tick)
-    return many, tree.tick
-
-
-def scaled(plan, times):
-    """A plan in which all ticks are so many times as large."""
-    deadline = None if plan.deadline is None else plan.deadline * times
-    if isinstance(plan, WorkerPlan):
-        return WorkerPlan(plan.name, restart=plan.restart, opening=plan.opening * times, closing=plan.closing * times,
-                          deadline=deadline, refused=plan.refused)
-    return SupervisorPlan(plan.name, *[scaled(child, times) for child in plan.children], restart=plan.restart,
-                          strategy=plan.strategy, most=plan.most, span=plan.span * times, deadline=deadline)
-
-
-class Falls(TreeCase):
-    def test_stubborn_failures(self):
-        # 12.2 and 12.3: how many failures end the tree, and when.
-        falls = stands = 0
-        for seed in range(250):
-            plan = plain_root(seeded(seed))
-            for worker in all_plans(plan):
-                if isinstance(worker, SupervisorPlan):
-                    continue
-                attack = attack_of(plan, worker.name)
-                product = prod(plan_at(plan, name).most + 1 for name in path_to(plan, worker.name)[:-1])
-                found = stubborn_fall(plan, worker.name, product + 20)
-                if attack is None:
-                    stands += 1
-                    self.assertIsNone(found)
-                else:
-                    falls += 1
-                    self.assertEqual(found, (product, opening_time(plan) + attack))
-        self.assertTrue(falls > 300 and stands > 300)
-
-    def test_fewer_failures_do_not_end_the_tree(self):
-        # 12.4: no failures that are fewer than the least product do.
-        for seed in range(150):
-            chance = seeded(seed)
-            plan = plain_root(chance)
-            workers = [one.name for one in all_plans(plan) if isinstance(one, WorkerPlan)]
-            fewest = min(prod(plan_at(plan, name).most + 1 for name in path_to(plan, place)[:-1]) for place in workers)
-            tree = Tree(plan)
-            tree.run_until_quiet(1000)
-            left = fewest - 1
-            for _ in range(40):
-                running = [place for place in workers if tree.state_of(place) == "running"]
-                if left and running and chance.random() < 0.7:
-                    tree.fail(chance.choice(running))
-                    left -= 1
-                tree.run(tree.tick + chance.choice((0, 0, 1)))
-            tree.run(tree.tick + 1000)
-            self.assertFalse(tree.is_over)
-
+class Ticks(TreeCase):
     def test_ticks_that_are_multiplied(self):
         # 12.6: also with refused starts, temporary and added children.
         for seed in range(120):
@@ -131,19 +50,22 @@ class Falls(TreeCase):
             self.assertEqual(logs[0], logs[2])
 
 
-class Messages(TreeCase):
-    def trees(self):
-        """Trees with scripts by chance, that had a history."""
-        for seed in range(300):
-            chance = seeded(seed)
-            tree = Tree(scripted_root(chance))
-            history_by_chance(chance, tree, 40)
-            yield tree
+@cache
+def trees():
+    """Trees with scripts by chance, that had a history; they are only looked at, so all tests have the same ones."""
+    found = []
+    for seed in range(300):
+        chance = seeded(seed)
+        found.append(Tree(scripted_root(chance)))
+        history_by_chance(chance, found[-1], 40)
+    return found
 
+
+class Messages(TreeCase):
     def test_the_first_one_that_was_sent_is_the_first_one_that_is_taken(self):
         # 13.10, of two messages from one process to another one with the same word.
         pairs = 0
-        for tree in self.trees():
+        for tree in trees():
             sent = {data[0]: data for _, _, _, word, data in log_of(tree) if word == "sent"}
             taken = {}
             for _, _, _, word, data in log_of(tree):
@@ -156,12 +78,12 @@ class Messages(TreeCase):
         self.assertGreater(pairs, 20)
 
     def test_a_process_takes_at_most_one_message_in_a_tick(self):
-        for tree in self.trees():
+        for tree in trees():
             taken = [(tick, data[1]) for _, tick, _, word, data in log_of(tree) if word == "taken"]
             self.assertEqual(len(set(taken)), len(taken))
 
     def test_each_message_has_one_status(self):
-        for tree in self.trees():
+        for tree in trees():
             log = log_of(tree)
             sent = [data[0] for _, _, _, word, data in log if word == "sent"]
             self.assertEqual(sent, list(range(1, len(sent) + 1)))
@@ -172,11 +94,13 @@ class Messages(TreeCase):
                     before = {"waiting": ("sent",), "handled": ("waiting",), "dropped": ("sent", "waiting")}[status]
                     self.assertIn(expected[data[0]], before)
                     expected[data[0]] = status
-            self.assertEqual(tree.world.statuses, expected)
+            self.assertEqual({number: status_of(tree, number) for number in sent}, expected)
+            statuses = list(expected.values())
+            self.assertEqual(counts(tree), tuple(statuses.count(status) for status in STATUSES))
 
     def test_each_question_is_answered_or_returned_once(self):
         answered = returned = 0
-        for tree in self.trees():
+        for tree in trees():
             log = log_of(tree)
             asked = {data[0] for _, _, _, word, data in log if word == "sent" and data[1] == "ask"}
             done = [data[0] for _, _, _, word, data in log if word in ("answered", "returned")]
@@ -188,7 +112,8 @@ class Messages(TreeCase):
             took = {data[0]: data[1] for _, _, _, word, data in log if word == "taken"}
             ended = {data[0] for _, _, _, word, data in log if word == "ended"}
             for number in asked - set(done):
-                status = tree.world.statuses[number]
+                self.assertEqual(question_of(tree, number), "open")
+                status = status_of(tree, number)
                 self.assertTrue(status in ("sent", "waiting") or status == "handled" and took[number] not in ended)
         self.assertTrue(answered > 5 and returned > 100)
 
@@ -197,7 +122,7 @@ class LinksAndMonitors(TreeCase):
     def test_an_abnormal_end_ends_those_who_are_joined_in_the_same_tick(self):
         # 14.5, for those who do not trap and are not closing when the signal comes.
         ends = 0
-        for tree in Messages().trees():
+        for tree in trees():
             joined, traps, closing, ended = {}, set(), set(), {}
             log = log_of(tree)
             for number, tick, _, word, data in log:
@@ -230,7 +155,7 @@ class LinksAndMonitors(TreeCase):
     def test_a_monitor_leads_to_one_message(self):
         # 14.5, unless it is taken away or its owner ends first.
         downs = 0
-        for tree in Messages().trees():
+        for tree in trees():
             watching, expected, got = [], [], []
             for _, _, _, word, data in log_of(tree):
                 if word == "watched":

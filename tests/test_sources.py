@@ -14,6 +14,11 @@ INTERFACE = {
     "texts": "plan_text read_plan",
     "trees": "Tree",
     "times": "opening_time stopping_time shutdown_told least_deadlines",
+    "falls": "attacks fall fewest reach",
+    "messages": "status_of question_of answer_of counts box mode_of is_busy does_trap links_of watched_by timers_of "
+                "hangs_on rings",
+    "logs": "entries chain effects inputs played standing",
+    "snapshots": "snapshot restored",
 }
 METHODS_OF_TREES = """
     __init__ __contains__ __len__ run run_until_quiet fail stop add take_out tick is_over is_quiet next_tick running
@@ -31,7 +36,7 @@ def nodes():
 class Sources(unittest.TestCase):
     def test_the_package_is_one_folder_with_an_init(self):
         self.assertTrue((PACKAGE / "__init__.py").is_file())
-        for name in ("errors", "scripts", "plans", "texts", "trees", "times"):
+        for name in ("errors", *INTERFACE):
             self.assertTrue((PACKAGE / f"{name}.py").is_file())
 
     def test_each_function_and_class_is_defined_in_its_file(self):

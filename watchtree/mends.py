@@ -82,16 +82,20 @@ def _begin_mend(world, supervisor, order):
 def _orders_of_mend(world, supervisor, number):
     """The list of the orders by which a supervisor mends a place, by its strategy."""
     at = supervisor.places.index(number)
-    if supervisor.plan.strategy == "one":
-        stops = []
-        starts = [number]
-    elif supervisor.plan.strategy == "rest":
-        stops = supervisor.places[at + 1:]
-        starts = supervisor.places[at:]
-    else:
-        stops = supervisor.places[:at] + supervisor.places[at + 1:]
-        starts = supervisor.places
+    begin, end = part_of_mend(supervisor.plan.strategy, at, len(supervisor.places))
+    stops = supervisor.places[begin:at] + supervisor.places[at + 1:end]
+    starts = supervisor.places[begin:end]
     return orders_for(world, "stop", list(reversed(stops))) + orders_for(world, "start", starts)
+
+
+def part_of_mend(strategy, at, many):
+    """Begin and end of the slice of so many children that is started when the one at an index is mended.
+
+    Of these, all but the one that is mended are stopped first.
+    """
+    begin = 0 if strategy == "all" else at
+    end = at + 1 if strategy == "one" else many
+    return begin, end
 
 
 def _stands_restart(world, supervisor, name):

@@ -18,13 +18,21 @@ def send_message(world, kind, sender, receiver, word, value, about=None):
         source = sender.number
         home = sender.place
     world.messages[number] = Message(kind, source, home, receiver, word, value, about)
-    world.statuses[number] = "sent"
+    set_status(world, number, "sent")
     if kind == "ask":
         world.questions[number] = "open"
     shown = world.places[receiver].plan.name if kind in KINDS_TO_PLACES else receiver
     enter(world, "sent", number, kind, source, shown, word, value)
     put_step(world, 1, "arrival", number)
     return number
+
+
+def set_status(world, number, status):
+    """A message has this status from now on."""
+    if number in world.statuses:
+        world.counts[world.statuses[number]] -= 1
+    world.counts[status] += 1
+    world.statuses[number] = status
 
 
 def send_word(world, receiver, word, value, about):
@@ -45,7 +53,7 @@ def arrive(world, number):
         drop_message(world, number)
         return
     worker.box.append(number)
-    world.statuses[number] = "waiting"
+    set_status(world, number, "waiting")
     enter(world, "arrived", number, worker.number)
     if is_idle(worker) and _fits(world, worker, number):
         put_step(world, 0, "take", worker.number)
@@ -79,7 +87,7 @@ def first_fitting(world, worker):
 
 def drop_message(world, number):
     """A message is dropped; an open question among them is returned."""
-    world.statuses[number] = "dropped"
+    set_status(world, number, "dropped")
     enter(world, "dropped", number)
     if world.questions.get(number) == "open":
         return_question(world, number)

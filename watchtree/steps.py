@@ -48,6 +48,17 @@ def run_to(world, tick):
     world.now = tick
 
 
+def run_to_entry(world, tick):
+    """Execute steps up to and in a tick until one of them makes an entry; return whether one does."""
+    before = world.entries_made
+    at = first_tick(world)
+    while world.entries_made == before and at is not None and at <= tick:
+        world.now = at
+        _execute_next(world)
+        at = first_tick(world)
+    return world.entries_made > before
+
+
 def _execute_next(world):
     """Execute the next step of the present tick, or its first deadline if it has no step left."""
     row = take_step(world)

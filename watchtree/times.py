@@ -16,10 +16,13 @@ def opening_time(plan):
 def stopping_time(plan):
     """How many ticks the stop of a plan takes."""
     if isinstance(plan, WorkerPlan):
-        needed = plan.closing
-    else:
-        needed = sum([stopping_time(child) for child in plan.children])
-    return needed if plan.deadline is None else min(needed, plan.deadline)
+        return limited(plan.closing, plan.deadline)
+    return limited(sum([stopping_time(child) for child in plan.children]), plan.deadline)
+
+
+def limited(needed, deadline):
+    """How many ticks the stop takes of what needs so many, and has this deadline or None."""
+    return needed if deadline is None else min(needed, deadline)
 
 
 def shutdown_told(tree):

@@ -3,7 +3,7 @@
 from watchtree.agenda import enter, put_step
 from watchtree.deeds import do_deeds
 from watchtree.ends import end_process
-from watchtree.posts import first_fitting, is_idle
+from watchtree.posts import first_fitting, is_idle, set_status
 from watchtree.scripts import found_row
 
 
@@ -59,7 +59,7 @@ def take_message(world, number):
         return
     message = world.messages[found]
     worker.box.remove(found)
-    world.statuses[found] = "handled"
+    set_status(world, found, "handled")
     enter(world, "taken", found, number)
     worker.value = message.value
     worker.sender = message.home

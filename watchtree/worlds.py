@@ -151,7 +151,8 @@ class Message:
 class World:
     """All that a tree knows; cause, first and pending are those of the step that is being executed.
 
-    live has the processes that have not ended, taken the numbers of the places by the names that are taken.
+    live has the processes that have not ended, taken the numbers of the places by the names that are taken. counts
+    tells how many messages have each status; messages that were final when a tree was restored are not counted.
     """
 
     def __init__(self):
@@ -173,6 +174,7 @@ class World:
         self.messages = {}
         self.messages_made = 0
         self.statuses = {}
+        self.counts = {"sent": 0, "waiting": 0, "handled": 0, "dropped": 0}
         self.questions = {}
         self.answers = {}
         self.timers_made = 0
@@ -195,6 +197,7 @@ class World:
         other.messages = dict(self.messages)
         other.messages_made = self.messages_made
         other.statuses = dict(self.statuses)
+        other.counts = dict(self.counts)
         other.questions = dict(self.questions)
         other.answers = dict(self.answers)
         other.timers_made = self.timers_made
