@@ -2,10 +2,11 @@
 
 import unittest
 from functools import cache
+from math import prod
 
-from tests.histories import do, history_by_chance, plain_root, root_by_chance, scripted_root, seeded
+from tests.histories import do, history_by_chance, root_by_chance, scripted_root, seeded
 from tests.samples import scaled
-from tests.telling import TreeCase, log_of
+from tests.telling import TreeCase, log_of, ran, row, worker
 from watchtree.messages import counts, question_of, status_of
 from watchtree.plans import SupervisorPlan
 from watchtree.trees import Tree
@@ -14,6 +15,39 @@ STATUSES = ("sent", "waiting", "handled", "dropped")
 
 
 class Ticks(TreeCase):
+    def test_every_tick_has_finitely_many_steps(self):
+        # 4.4: a worker that ends as soon as it runs is started as often as 3.3 lets it, all in the first tick.
+        for mosts in ((9, 9, 9), (0, 0, 0), (20, 2, 1), (4, 4, 4, 7)):
+            plan = worker("w", row("start", ("end", "failed")))
+            for at, most in enumerate(mosts):
+                plan = SupervisorPlan(f"s{at}", plan, most=most, span=1)
+            tree = ran(plan)
+            self.assertEqual((tree.is_over, tree.starts_of("w")), (True, prod(most + 1 for most in mosts)))
+            for at in range(len(mosts)):
+                self.assertEqual(tree.starts_of(f"s{at}"), prod(most + 1 for most in mosts[at + 1:]))
+
+    def test_what_was_asked_to_stop_or_was_killed_is_not_mended(self):
+        # 7.3: a note of a restart is that of a place whose latest process ended by itself, or did not run.
+        notes = 0
+        for tree in trees():
+            latest, stopped, felt = {}, set(), set()
+            for _, _, _, word, data in log_of(tree):
+                if word == "started":
+                    latest[data[1]] = data[0]
+                if word == "signal":
+                    felt.add(data[0])
+                if word == "closing":
+                    stopped.add(data[0])
+                if word == "ended" and data[1] in ("gave_up", "refused"):
+                    stopped.discard(data[0])
+                # Who is linked with a process that was killed ends with this reason, too, and is mended.
+                if word == "ended" and data[1] == "killed" and data[0] not in felt:
+                    stopped.add(data[0])
+                if word == "restart":
+                    notes += 1
+                    self.assertNotIn(latest[data[1]], stopped)
+        self.assertGreater(notes, 100)
+
     def test_ticks_that_are_multiplied(self):
         # 12.6: also with refused starts, temporary and added children.
         for seed in range(120):

@@ -88,7 +88,8 @@ class Attacks(TreeCase):
         inner = supervisor("t", WorkerPlan("w", opening=1), most=1, span=2)
         middle = supervisor("s", inner, most=1, span=2)
         outer = supervisor("r", middle, most=0, span=1)
-        self.assertEqual(attacks(root(outer), "w"), (("t", 1, 1), ("s", 2, None), ("r", None, None), ("root", None, None)))
+        self.assertEqual(attacks(root(outer), "w"),
+                         (("t", 1, 1), ("s", 2, None), ("r", None, None), ("root", None, None)))
 
     def test_failures_in_one_tick(self):
         inner = supervisor("s", WorkerPlan("w"), most=20, span=1)
@@ -512,8 +513,9 @@ class Reach(TreeCase):
 
     def next_input(self, chance, places):
         place = chance.choice(places + ["p0"])
+        added = WorkerPlan(f"x{chance.randint(0, 3)}", closing=1)
         return chance.choice((("fail", (place,)), ("fail", (place,)), ("fail", (place, "normal")),
-                              ("take_out", (place,)), ("add", ("p0", WorkerPlan(f"x{chance.randint(0, 3)}", closing=1)))))
+                              ("take_out", (place,)), ("add", ("p0", added))))
 
 
 if __name__ == "__main__":

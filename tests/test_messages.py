@@ -228,7 +228,8 @@ class Workers(TreeCase):
         self.assertEqual(is_busy(tree, "a"), False)
 
     def test_a_closing_worker_has_given_up_its_work(self):
-        tree = ran(root(WorkerPlan("a", closing=5, script=(row("start", ("mode", "second"), ("trap", True), work=9),))), 1)
+        rows = (row("start", ("mode", "second"), ("trap", True), work=9),)
+        tree = ran(root(WorkerPlan("a", closing=5, script=rows)), 1)
         self.assertEqual(is_busy(tree, "a"), True)
         tree.stop()
         tree.run(1)
@@ -257,7 +258,8 @@ class Workers(TreeCase):
 
     def test_watched_in_the_order_in_which_this_was_done(self):
         deeds = (("monitor", "s"), ("monitor", "b"), ("monitor", "own"), ("monitor", "b"))
-        plan = root(SupervisorPlan("s", WorkerPlan("b")), worker("a", row("start", *deeds), row("go", ("unmonitor", "s"))))
+        watches = worker("a", row("start", *deeds), row("go", ("unmonitor", "s")))
+        plan = root(SupervisorPlan("s", WorkerPlan("b")), watches)
         tree = ran(plan, 2)
         self.assertEqual((watched_by(tree, "a"), watched_by(tree, "b")), ((2, 3, 4), ()))
         tree.send("a", "go")

@@ -107,9 +107,10 @@ class Snapshots(TreeCase):
         plan = root(worker("a", row("start", ("later", 9, "x", 1))), WorkerPlan("b", closing=3, deadline=9), most=9)
         tree = ran(plan, 2)
         found = [snapshot(tree)]
-        for method, arguments in (("run", (3,)), ("send", ("a", "go")), ("send", ("a", "go", 1)), ("ask", ("a", "go", 1)),
-                                  ("fail", ("a",)), ("fail", ("b",)), ("add", ("root", WorkerPlan("x"))),
-                                  ("add", ("root", WorkerPlan("x", opening=1))), ("take_out", ("b",)), ("stop", ())):
+        for method, arguments in (("run", (3,)), ("send", ("a", "go")), ("send", ("a", "go", 1)),
+                                  ("ask", ("a", "go", 1)), ("fail", ("a",)), ("fail", ("b",)),
+                                  ("add", ("root", WorkerPlan("x"))), ("add", ("root", WorkerPlan("x", opening=1))),
+                                  ("take_out", ("b",)), ("stop", ())):
             other = tree.twin()
             do(other, method, arguments)
             found.append(snapshot(other))
@@ -343,8 +344,8 @@ class Moments(TreeCase):
         self.check(tree.twin(), ("run", (8,)), ("fail", ("a",)))
 
     def test_timers(self):
-        rows = (row("start", ("later", 5, "x", 1), ("later", 3, "y", 2), ("later", 5, "x", 3)), row("go", ("cancel", "x")),
-                row("x", ("note", "x")), row("y", ("note", "y")))
+        rows = (row("start", ("later", 5, "x", 1), ("later", 3, "y", 2), ("later", 5, "x", 3)),
+                row("go", ("cancel", "x")), row("x", ("note", "x")), row("y", ("note", "y")))
         tree = ran(root(worker("a", *rows)), 1)
         other = restored(tree.plan, snapshot(tree))
         self.assertEqual(timers_of(other, "a"), ((3, "y", 2), (5, "x", 1), (5, "x", 3)))
@@ -360,8 +361,10 @@ class Moments(TreeCase):
                     worker("d", row("start", ("link", "a"), ("monitor", "a"))), most=9)
         tree = ran(plan, 2)
         other = restored(plan, snapshot(tree))
-        self.assertEqual((links_of(other, "a"), watched_by(other, "a"), does_trap(other, "a")), ((2, 4, 6), (3, 4), True))
-        for actions in ((("fail", ("a",)),), (("fail", ("b",)), ("fail", ("c",))), (("take_out", ("s",)),), (("stop", ()),)):
+        self.assertEqual((links_of(other, "a"), watched_by(other, "a"), does_trap(other, "a")),
+                         ((2, 4, 6), (3, 4), True))
+        for actions in ((("fail", ("a",)),), (("fail", ("b",)), ("fail", ("c",))), (("take_out", ("s",)),),
+                        (("stop", ()),)):
             self.check(tree.twin(), *actions)
 
     def test_signals_on_their_way(self):
@@ -373,14 +376,13 @@ class Moments(TreeCase):
 
     def test_modes_work_and_what_was_taken_last(self):
         # a has taken a question of b and answers later, to its sender, about what it was, with its value.
-        rows = (row("q", ("later", 4, "go", 0), ("mode", "second"), work=3), row("go", ("reply", ("plus", 2)),
-                                                                                  mode="second"))
+        rows = (row("q", ("later", 4, "go", 0), ("mode", "second"), work=3),
+                row("go", ("reply", ("plus", 2)), mode="second"))
         plan = root(worker("a", *rows), worker("b", row("start", ("ask", "a", "q", 5)), row("answer", ("note", "got"))))
         tree = ran(plan, 2)
         self.assertEqual((mode_of(tree, "a"), is_busy(tree, "a"), question_of(tree, 1)), ("second", True, "open"))
         for tick in range(2, 9):
             tree.run(tick)
-            # b always has the work of its start behind it.
             self.check(tree.twin(), ("send", ("a", "go", 7)), ("fail", ("a",)))
         self.assertEqual(question_of(tree, 1), "answered")
 
@@ -395,9 +397,8 @@ class Moments(TreeCase):
             self.check(tree.twin(), ("fail", ("c",)), ("run", (tick + 2,)), ("send", ("a", "go", 4)))
 
     def test_messages_to_places_that_are_gone(self):
-        plan = root(worker("a", row("go", ("ask", "x", "q", 5), ("send", "x", "hey", 1)), row("back", ("send", "about",
-                                                                                                  "hey", 2))))
-        tree = ran(plan, 1)
+        rows = (row("go", ("ask", "x", "q", 5), ("send", "x", "hey", 1)), row("back", ("send", "about", "hey", 2)))
+        tree = ran(root(worker("a", *rows)), 1)
         tree.add("root", WorkerPlan("x"))
         tree.run(2)
         tree.send("a", "go")
@@ -428,8 +429,8 @@ class Older(TreeCase):
     def sample(self):
         """A tree with messages of each status, and what is restored of it.
 
-        1 waits, 2 is handled and was answered, 3 is handled and open, 4 was dropped and returned, 5 is on its way, 6
-        is handled and no question.
+        1 waits, 2 is handled and was answered, 3 is handled and open, 4 was dropped and returned, 5 is handled and no
+        question, 6 is on its way.
         """
         plan = root(worker("a", row("q", ("reply", 9)), row("hold"), row("go")), WorkerPlan("b"), most=9)
         tree = ran(plan, 1)

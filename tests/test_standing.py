@@ -312,6 +312,15 @@ class InputsOfLogs(TreeCase):
         self.assertEqual(standing(plan, log), number)
         self.assertEqual(standing(plan, log + ((number + 1, LARGEST, number - 1, "arrived", (2, 2)),)), number)
 
+    def test_an_input_long_behind_what_a_restless_tree_would_make(self):
+        # The tree has a step at each tick: that it is not at rest is seen by the first one.
+        plan = root(worker("a", row("start", ("later", 1, "x", 0)), row("x", ("later", 1, "x", 0))), most=9)
+        log = self.log(ran(plan, 5))
+        number = len(log) + 1
+        self.assertEqual(standing(plan, log + ((number, 5, 0, "input", ("stop", ())),)), number)
+        for tick in (6, LARGEST):
+            self.assertEqual(standing(plan, log + ((number, tick, 0, "input", ("stop", ())),)), number - 1)
+
     def test_an_added_plan_stands_as_it_is(self):
         plan = root()
         added = WorkerPlan("x", script=(row("go", ("add", "root", WorkerPlan("y"))),))
