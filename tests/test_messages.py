@@ -9,6 +9,7 @@ from watchtree.errors import NoMessage, NoPlace, NotWorker
 from watchtree.messages import (answer_of, box, counts, does_trap, hangs_on, is_busy, links_of, mode_of, question_of,
                                 rings, status_of, timers_of, watched_by)
 from watchtree.plans import SupervisorPlan, WorkerPlan, names
+from watchtree.snapshots import restored, snapshot
 from watchtree.trees import Tree
 
 QUERIES = (box, mode_of, is_busy, does_trap, links_of, watched_by, timers_of)
@@ -469,14 +470,60 @@ class Hanging(TreeCase):
         tree.run(tree.tick)
         self.assertEqual((hangs_on(tree, "a"), hangs_on(tree, "b"), rings(tree)), ("b", None, ()))
 
-    def test_a_place_that_hangs_on_itself(self):
-        self.check(root(asking("a", "own"), WorkerPlan("b")), ("a", None, (("a",),)))
-        self.check(root(asking("a", "a", "own"), asking("b", "a")), ("a", "a", (("a",),)))
-        self.check(root(asking("a", "own", "b"), asking("b", "b")), (None, "b", (("b",),)))
+    def test_a_place_that_asks_itself_hangs_on_none(self):
+        for others in (("own",), ("a",), ("own", "own"), ("a", "a"), ("a", "own")):
+            for rows in ((), ANSWERED[:1], ANSWERED[1:], ANSWERED):
+                tree = self.check(root(asking("a", *others, rows=rows), WorkerPlan("b")), (None, None, ()))
+                self.assertEqual((tree.state_of("a"), is_busy(tree, "a"), counts(tree)[0]), ("running", False, 0))
+                self.assertEqual(box(tree, "a"), (("q", 0),) * len(others))
+                self.assertEqual({question_of(tree, at + 1) for at in range(len(others))}, {"open"})
+
+    def test_a_place_that_asks_itself_and_another_one_hangs_on_none(self):
+        for others in (("own", "b"), ("b", "own"), ("a", "b"), ("b", "b", "a"), ("own", "own", "b")):
+            self.check(root(asking("a", *others), WorkerPlan("b")), (None, None, ()))
+            # b hangs on a, which does not hang on b.
+            self.check(root(asking("a", *others), asking("b", "a")), (None, "a", ()))
+
+    def test_a_place_that_asks_one_which_asks_itself_hangs_on_it(self):
+        self.check(root(asking("a", "own"), asking("b", "a")), (None, "a", ()))
+        self.check(root(asking("a", "b", "b"), asking("b", "b")), ("b", None, ()))
+        tree = self.check(root(asking("a", "b"), asking("b", "c"), asking("c", "own")), ("b", "c", ()))
+        self.assertEqual(hangs_on(tree, "c"), None)
 
     def test_a_question_to_itself_that_it_took(self):
-        rows = (row("start", ("ask", "own", "q", 0)), row("q", ("mode", "stuck")))
-        self.check(root(worker("a", *rows), WorkerPlan("b")), ("a", None, (("a",),)))
+        for other in ("own", "a"):
+            rows = (row("start", ("ask", other, "q", 0)), row("q", ("mode", "stuck")))
+            tree = self.check(root(worker("a", *rows), WorkerPlan("b")), (None, None, ()))
+            self.assertEqual((status_of(tree, 1), question_of(tree, 1), mode_of(tree, "a")),
+                             ("handled", "open", "stuck"))
+            # It took one of both, and the other one waits in its box, or in that of another place.
+            for second in (other, "b"):
+                rows = (row("start", ("ask", other, "q", 0), ("ask", second, "r", 0)), row("q", ("mode", "stuck")))
+                self.check(root(worker("a", *rows), WorkerPlan("b")), (None, None, ()))
+
+    def test_a_question_to_itself_that_was_answered_does_not_count(self):
+        rows = (row("start", ("ask", "own", "q", 0), ("ask", "b", "q", 0)), row("q", ("reply", 1)),
+                row("answer", ("mode", "stuck")))
+        tree = self.check(root(worker("a", *rows, *ANSWERED), WorkerPlan("b")), ("b", None, ()))
+        self.assertEqual((question_of(tree, 1), question_of(tree, 2)), ("answered", "open"))
+
+    def test_a_place_that_asks_itself_in_a_restored_tree_and_after_a_mend(self):
+        plan = root(asking("a", "own"), asking("b", "a"), most=9)
+        tree = ran(plan, 9)
+        other = restored(plan, snapshot(tree))
+        self.assertEqual((hangs_on(other, "a"), hangs_on(other, "b"), rings(other)), (None, "a", ()))
+        tree.fail("a")
+        tree.run(20)
+        self.assertEqual((tree.starts_of("a"), box(tree, "a")), (2, (("q", 0),)))
+        self.assertEqual((hangs_on(tree, "a"), hangs_on(tree, "b"), rings(tree)), (None, None, ()))
+
+    def test_an_added_place_that_asks_itself(self):
+        tree = ran(root(asking("b", "a")), 9)
+        tree.add("root", asking("a", "own"))
+        tree.add("root", asking("c", "a"))
+        tree.run(20)
+        self.assertEqual([hangs_on(tree, name) for name in "abc"], [None, None, "a"])
+        self.assertEqual(rings(tree), ())
 
 
 class Rings(TreeCase):
@@ -515,7 +562,7 @@ class Rings(TreeCase):
 
     def trees(self):
         """Trees by chance in which workers ask one another and get stuck, or answer."""
-        for seed in range(150):
+        for seed in range(600):
             chance = seeded(seed)
             told = [f"p{at}" for at in range(chance.randint(2, 6))]
             workers = []
@@ -569,7 +616,22 @@ class Rings(TreeCase):
                 while hangs_on(tree, way[-1]) is not None and hangs_on(tree, way[-1]) not in way:
                     way.append(hangs_on(tree, way[-1]))
                 self.assertNotEqual(hangs_on(tree, way[-1]), name)
-        self.assertGreaterEqual(sizes, {1, 2, 3})
+        self.assertGreaterEqual(sizes, {2, 3})
+        self.assertEqual(min(sizes), 2)
+
+    def test_no_place_hangs_on_itself(self):
+        kept = 0
+        for _, tree in self.trees():
+            for tick in range(12):
+                tree.run(tick)
+                for name in tree.running:
+                    self.assertNotEqual(hangs_on(tree, name), name)
+            asked = {}
+            for _, _, _, word, data in log_of(tree):
+                if word == "sent" and data[1] == "ask":
+                    asked.setdefault(data[2], set()).add(data[3])
+            kept += sum(asked.get(tree.number_of(name)) == {name} for name in tree.running)
+        self.assertGreater(kept, 300)
 
 
 if __name__ == "__main__":

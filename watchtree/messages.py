@@ -91,7 +91,7 @@ def timers_of(tree, place):
 
 
 def hangs_on(tree, place):
-    """The place on which a place hangs, or None; NoPlace."""
+    """The other place on which a place hangs, or None; NoPlace."""
     found = place_called(tree.world, place)
     return _hangs_on(tree.world, found, _open_questions(tree.world))
 
@@ -122,17 +122,17 @@ def _open_questions(world):
 
 
 def _hangs_on(world, place, asked):
-    """The name of the place on which a place hangs, or None; asked has the numbers of the open questions."""
+    """The name of the other place on which a place hangs, or None; asked has the numbers of the open questions."""
     worker = process_at(world, place.number)
     if not isinstance(worker, Worker) or not is_idle(worker) or not _waits_for_ends_of_questions(world, worker):
         return None
     own = [number for number in asked if world.messages[number].sender == worker.number]
     if any([world.statuses[number] == "sent" for number in own]):
         return None
-    # A question that has arrived and is open waits for the present process of its place, or was taken by it. This
-    # can be the place of the worker itself.
+    # A question that has arrived and is open waits for the present process of its place, or was taken by it.
     holders = [world.messages[number].receiver for number in own]
-    if len(set(holders)) != 1:
+    # A place hangs on another one only: a question that it keeps itself is not with another place.
+    if len(set(holders)) != 1 or holders[0] == place.number:
         return None
     return world.places[holders[0]].plan.name
 
